@@ -18,3 +18,15 @@ def meets(asking, marks):
 
 def meets_all(askings, marks):
     return all([meets(asking, marks) for asking in askings])
+
+
+def names_in(askings):
+    return sorted(set([asking[1] for asking in askings]))
+
+
+def values_beside(askings, name):
+    values = []
+    for asking in askings:
+        if asking[1] == name:
+            values.extend(asking[2])
+    return sorted(set(values))

@@ -7,18 +7,58 @@ from pathlib import Path
 
 import belfry
 from belfry.askings import meets, meets_all
+from belfry.errors import HouseError
 from belfry.marks import is_name, is_value, value_in
+from belfry.trees import groups_of, key_of, places, row_at, taken
+from belfry.treetexts import read_tree, shown_tree
+from belfry.wordings import read_askings, read_marks, shown_askings, shown_marks
+from made import row
 
 FILES = sorted(Path(belfry.__file__).parent.glob("**/*.py"))
 REACHING_OUT = ("open", "input", "print", "eval", "exec", "compile", "__import__", "hash", "id")
 
 MARKS = (("env", "live"), ("host", "db7"), ("zone", "a1"))
+OTHERS = (("env", "trial"), ("host", "web2"), ("rack", "r9"))
 ASKINGS = (
     ("is", "host", ("web1", "db7", "db1")),
     ("no", "env", ("trial", "old")),
     ("there", "zone", ()),
     ("lacks", "rack", ()),
 )
+BELOW = row(ASKINGS, True, ("host", "rack"), 5, 60, ("day", "night"), (row(ASKINGS[1:]), row(ASKINGS[:1], True)))
+TREE = row(ASKINGS[:1], False, ("env",), rows=(BELOW, row(ASKINGS[3:], True), row()))
+TEXTS = ["0 on - 1 1 - -", "1 off a 5 60 b,b c=x|y", "2 on - 1 1 - c!x d+"]
+
+# Each function with things to hand in, wrong ones among them.
+CALLS = [
+    (is_name, ("host",)),
+    (is_name, ("db7",)),
+    (is_value, ("db7",)),
+    (is_value, ("",)),
+    (value_in, (MARKS, "host")),
+    (value_in, (MARKS, "rack")),
+    (meets, (ASKINGS[0], MARKS)),
+    (meets, (ASKINGS[2], OTHERS)),
+    (meets_all, (ASKINGS, MARKS)),
+    (meets_all, (ASKINGS, OTHERS)),
+    (shown_marks, (MARKS,)),
+    (shown_askings, (ASKINGS,)),
+    (read_marks, ("zone=a1 env=live",)),
+    (read_marks, ("zone=a1 zone=b2",)),
+    (read_askings, ("a=x|y b- c+",)),
+    (read_askings, ("a=x|x",)),
+    (places, (TREE,)),
+    (row_at, (TREE, (0, 1))),
+    (row_at, (TREE, (0, 2))),
+    (taken, (TREE, MARKS)),
+    (taken, (TREE, OTHERS)),
+    (key_of, (BELOW, MARKS)),
+    (groups_of, (TREE, MARKS)),
+    (groups_of, (TREE, OTHERS)),
+    (shown_tree, (TREE,)),
+    (read_tree, (TEXTS,)),
+    (read_tree, (TEXTS + ["3 on - 0 1 - -"],)),
+]
 
 
 class NoClockChanceOrFilesTest(unittest.TestCase):
@@ -43,34 +83,37 @@ class NoClockChanceOrFilesTest(unittest.TestCase):
 
 
 class HandedInTest(unittest.TestCase):
+    """Point 2, of each function: what is handed in stays, what is told is the asker's own."""
+
+    def refused_or_told(self, function, handed):
+        try:
+            return function(*handed)
+        except HouseError as refusal:
+            return (type(refusal), vars(refusal))
+
     def test_what_is_handed_in_stays_as_it_was(self):
-        marks = copy.deepcopy(MARKS)
-        askings = copy.deepcopy(ASKINGS)
-        value_in(marks, "host")
-        value_in(marks, "rack")
-        for asking in askings:
-            meets(asking, marks)
-        meets_all(askings, marks)
-        self.assertEqual(marks, MARKS)
-        self.assertEqual(askings, ASKINGS)
+        for function, handed in CALLS:
+            with self.subTest(function=function.__name__, handed=handed):
+                copied = copy.deepcopy(handed)
+                self.refused_or_told(function, copied)
+                self.assertEqual(copied, handed)
+
+    def test_what_the_asker_does_to_what_is_told_changes_nothing(self):
+        for function, handed in CALLS:
+            with self.subTest(function=function.__name__, handed=handed):
+                told = self.refused_or_told(function, handed)
+                kept = copy.deepcopy(told)
+                if isinstance(told, list):
+                    told.clear()
+                self.assertEqual(self.refused_or_told(function, handed), kept)
 
     def test_nothing_asked_between_changes_what_is_told(self):
-        others = (("env", "trial"), ("host", "web2"), ("rack", "r9"))
-
-        def told(marks):
-            return (
-                [is_name(name) for name, _ in marks],
-                [is_value(value) for _, value in marks],
-                [value_in(marks, name) for name in ("env", "host", "rack", "zone")],
-                [meets(asking, marks) for asking in ASKINGS],
-                meets_all(ASKINGS, marks),
-            )
-
-        first = told(MARKS)
-        other = told(others)
-        self.assertNotEqual(first, other)
-        self.assertEqual(told(MARKS), first)
-        self.assertEqual(told(others), other)
+        told = [copy.deepcopy(self.refused_or_told(function, handed)) for function, handed in CALLS]
+        for order in (CALLS[::-1], CALLS[::2], CALLS[1::2]):
+            for function, handed in order:
+                self.refused_or_told(function, handed)
+        again = [self.refused_or_told(function, handed) for function, handed in CALLS]
+        self.assertEqual(again, told)
 
 
 if __name__ == "__main__":

@@ -63,3 +63,26 @@ def all_marks():
         tuple((name, value) for name, value in zip(names, values) if value is not None)
         for values in product(*told)
     ]
+
+
+def rota(chance):
+    """A rota whose turns within the first forty or so matter."""
+    hands = ["ann", "bob", "cyd", "dan", "eve", "flo", "gus", "hal"]
+    chance.shuffle(hands)
+    return (tuple(hands[: chance.randint(1, 8)]), chance.randint(0, 50), chance.choice((1, 2, 3, 7, 20)))
+
+
+def stretch(chance):
+    first = chance.randint(0, 30)
+    return (first, first + chance.randint(1, 20))
+
+
+def swaps(chance, hands):
+    number = chance.randint(0, 6) if len(hands) > 1 else 0
+    return [tuple(chance.sample(hands, 2)) + stretch(chance) for _ in range(number)]
+
+
+def absences(chance, hands):
+    """Mostly of hands of the rota, so that now and then all are away."""
+    number = chance.randint(0, 3 * len(hands))
+    return [(chance.choice(hands + ("zoe",)),) + stretch(chance) for _ in range(number)]

@@ -7,8 +7,12 @@ from pathlib import Path
 
 import belfry
 from belfry.askings import meets, meets_all
+from belfry.cases import bears, names_asked, shown, values_with
 from belfry.errors import HouseError
+from belfry.hours import hours
 from belfry.marks import is_name, is_value, value_in
+from belfry.quieting import ground, in_force, stands
+from belfry.rotas import hand_on, is_away, swapped, turn_of
 from belfry.trees import groups_of, key_of, places, row_at, taken
 from belfry.treetexts import read_tree, shown_tree
 from belfry.wordings import read_askings, read_marks, shown_askings, shown_marks
@@ -28,6 +32,12 @@ ASKINGS = (
 BELOW = row(ASKINGS, True, ("host", "rack"), 5, 60, ("day", "night"), (row(ASKINGS[1:]), row(ASKINGS[:1], True)))
 TREE = row(ASKINGS[:1], False, ("env",), rows=(BELOW, row(ASKINGS[3:], True), row()))
 TEXTS = ["0 on - 1 1 - -", "1 off a 5 60 b,b c=x|y", "2 on - 1 1 - c!x d+"]
+ROTA = (("ann", "bob", "cyd"), 5, 4)
+SWAPS = [("ann", "bob", 7, 12), ("cyd", "ann", 3, 20)]
+ABSENCES = [("bob", 8, 10), ("cyd", 0, 6), ("bob", 2, 9)]
+SAYINGS = [(3, MARKS, 1, 0, None), (2, OTHERS, 5, 2, 9), (1, MARKS, 2, 1, None)]
+QUIETINGS = [(2, ASKINGS, 5, 12), (1, (), 7, 9)]
+RULES = [((), ASKINGS, ("env", "zone"))]
 
 # Each function with things to hand in, wrong ones among them.
 CALLS = [
@@ -58,6 +68,22 @@ CALLS = [
     (shown_tree, (TREE,)),
     (read_tree, (TEXTS,)),
     (read_tree, (TEXTS + ["3 on - 0 1 - -"],)),
+    (values_with, (TREE, "host")),
+    (names_asked, (TREE,)),
+    (bears, (TREE, (2,), ("caught", (1,)))),
+    (bears, (TREE, (), ("caught", (2,)))),
+    (shown, (TREE, ())),
+    (shown, (TREE, (0, 0))),
+    (shown, (TREE, (2, 0))),
+    (turn_of, (ROTA, 8)),
+    (swapped, ("ann", SWAPS, 8)),
+    (is_away, ("bob", ABSENCES, 8)),
+    (hand_on, (ROTA, SWAPS, ABSENCES, 8)),
+    (hours, (ROTA, SWAPS, ABSENCES, 0, 30)),
+    (stands, (SAYINGS[1], 8)),
+    (in_force, (QUIETINGS[0], 8)),
+    (ground, (SAYINGS[0], SAYINGS, QUIETINGS, RULES, 8)),
+    (ground, (SAYINGS[0], SAYINGS, QUIETINGS, RULES, 2)),
 ]
 
 

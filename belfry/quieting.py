@@ -16,13 +16,8 @@ def have_same_values(marks, others, names):
     return all([value_in(marks, name) == value_in(others, name) for name in names])
 
 
-def is_quieted_by(saying, other, rule):
-    return (
-        other[2] > saying[2]
-        and meets_all(rule[0], other[1])
-        and meets_all(rule[1], saying[1])
-        and have_same_values(saying[1], other[1], rule[2])
-    )
+def is_greater(other, saying, rule):
+    return meets_all(rule[0], other[1]) and have_same_values(saying[1], other[1], rule[2])
 
 
 def ground(saying, sayings, quietings, rules, turn):
@@ -30,9 +25,10 @@ def ground(saying, sayings, quietings, rules, turn):
     told = [quieting[0] for quieting in there if meets_all(quieting[1], saying[1])]
     if told:
         return ("told", min(told))
-    standing = [other for other in sayings if stands(other, turn)]
+    heavier = [other for other in sayings if other[2] > saying[2] and stands(other, turn)]
     for k, rule in enumerate(rules):
-        greater = [other[0] for other in standing if is_quieted_by(saying, other, rule)]
-        if greater:
-            return ("greater", k, min(greater))
+        if meets_all(rule[1], saying[1]):
+            greater = [other[0] for other in heavier if is_greater(other, saying, rule)]
+            if greater:
+                return ("greater", k, min(greater))
     return None

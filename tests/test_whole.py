@@ -7,10 +7,13 @@ from pathlib import Path
 
 import belfry
 from belfry.askings import meets, meets_all
+from belfry.calls import hand_of
 from belfry.cases import bears, names_asked, shown, values_with
+from belfry.closing import closed
 from belfry.errors import HouseError
 from belfry.hours import hours
 from belfry.marks import is_name, is_value, value_in
+from belfry.members import members
 from belfry.quieting import ground, in_force, stands
 from belfry.rotas import hand_on, is_away, swapped, turn_of
 from belfry.trees import groups_of, key_of, places, row_at, taken
@@ -38,6 +41,10 @@ ABSENCES = [("bob", 8, 10), ("cyd", 0, 6), ("bob", 2, 9)]
 SAYINGS = [(3, MARKS, 1, 0, None), (2, OTHERS, 5, 2, 9), (1, MARKS, 2, 1, None)]
 QUIETINGS = [(2, ASKINGS, 5, 12), (1, (), 7, 9)]
 RULES = [((), ASKINGS, ("env", "zone"))]
+STATES = [((), ("live",), [1, 3], 0, 4, None), ((1,), (), [2], 1, 30, 2)]
+THERE = [((), ("live",), [3, 4]), ((0,), ("db7", ""), [3]), ((1,), (), [2])]
+ROTAS = [("day", ROTA), ("night", (("dan", "ann"), 0, 3))]
+NAMED_SWAPS = [("day",) + swap for swap in SWAPS]
 
 # Each function with things to hand in, wrong ones among them.
 CALLS = [
@@ -84,6 +91,12 @@ CALLS = [
     (in_force, (QUIETINGS[0], 8)),
     (ground, (SAYINGS[0], SAYINGS, QUIETINGS, RULES, 8)),
     (ground, (SAYINGS[0], SAYINGS, QUIETINGS, RULES, 2)),
+    (members, (TREE, SAYINGS, QUIETINGS, RULES, 8)),
+    (members, (TREE, SAYINGS, QUIETINGS, RULES, 3)),
+    (closed, (TREE, STATES, THERE, [((1,), ()), ((), ("old",))], 5)),
+    (closed, (TREE, STATES, THERE, [], 3)),
+    (hand_of, (BELOW, 0, 8, ROTAS, NAMED_SWAPS, ABSENCES, "head")),
+    (hand_of, (BELOW, 2, 8, ROTAS, NAMED_SWAPS, ABSENCES, "head")),
 ]
 
 
@@ -108,6 +121,15 @@ class NoClockChanceOrFilesTest(unittest.TestCase):
                         self.assertNotIn(node.id, REACHING_OUT)
 
 
+def spoil(told):
+    """All that an asker can do to what is told: the lists in it are emptied, whatever they lie in."""
+    if isinstance(told, (list, tuple)):
+        for part in told:
+            spoil(part)
+    if isinstance(told, list):
+        told.clear()
+
+
 class HandedInTest(unittest.TestCase):
     """Point 2, of each function: what is handed in stays, what is told is the asker's own."""
 
@@ -129,8 +151,7 @@ class HandedInTest(unittest.TestCase):
             with self.subTest(function=function.__name__, handed=handed):
                 told = self.refused_or_told(function, handed)
                 kept = copy.deepcopy(told)
-                if isinstance(told, list):
-                    told.clear()
+                spoil(told)
                 self.assertEqual(self.refused_or_told(function, handed), kept)
 
     def test_nothing_asked_between_changes_what_is_told(self):

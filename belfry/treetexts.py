@@ -3,6 +3,7 @@
 from belfry.askings import names_in, values_beside
 from belfry.errors import BadTree
 from belfry.marks import FIGURES, is_name, made_of
+from belfry.numerals import is_numeral
 from belfry.trees import places, row_at
 from belfry.wordings import NONE, askings_ahead, shown_askings
 
@@ -54,9 +55,7 @@ def is_depth(word, depths):
 
 
 def is_number(word):
-    if not 1 <= len(word) <= MOST_FIGURES or not made_of(word, FIGURES):
-        return False
-    return word[0] != "0" and int(word) <= GREATEST
+    return is_numeral(word, MOST_FIGURES) and 1 <= int(word) <= GREATEST
 
 
 def read_names(word):

@@ -3,7 +3,10 @@
 import random
 from itertools import product
 
+from belfry.errors import HouseError, Late, NoStretch, Twice, Unknown
+from belfry.house import House
 from belfry.quieting import ground, stands
+from belfry.rotas import hand_on
 from belfry.trees import groups_of, row_at
 
 VALUES_OF = {"env": ("live", "old"), "host": ("a1", "b2", "c3"), "rack": (), "zone": ("n",)}
@@ -153,3 +156,123 @@ def closed_by_the_words(tree, states, there, answered, turn):
             step, due = (step + 1, turn + again) if step < len(chain) else (0, None)
         following.append((place, key, named, step, due, last))
     return following, calls
+
+
+def closings_by_the_words(parts, records, states, first, last):
+    """Points 24, 25 and 31 once more, turn by turn: the states behind the last closing, and the entries."""
+    tree, rotas, greater, top = parts
+    told, quieted, swapped, gone, answers = records
+    entries = []
+    for turn in range(first, last):
+        there = members_by_the_words(tree, told, quieted, greater, turn)
+        answered = [(place, key) for at, place, key in answers if at == turn]
+        states, calls = closed_by_the_words(tree, states, there, answered, turn)
+        for place, key, step, numbers in calls:
+            chain = row_at(tree, place)[5] + (None,)
+            hand = on_by_the_words(rotas, swapped, gone, chain[step], turn)
+            entries.append((turn, place, key, step, top if hand is None else hand, numbers))
+    return states, entries
+
+
+def on_by_the_words(rotas, swapped, gone, name, turn):
+    """The hand that is on by the rota of this name; None, too, of no name."""
+    if name is None:
+        return None
+    return hand_on(dict(rotas)[name], [swap[1:] for swap in swapped if swap[0] == name], gone, turn)
+
+
+# Names of rotas, of marks and of the top, too, so that nothing goes by a name alone.
+HANDS = ("ann", "bob", "one", "night", "env", "top")
+
+
+def house_parts(chance, tree):
+    """What a house is made of: the tree, rotas with few hands, greater rules, the top."""
+    rotas = [(name, (tuple(chance.sample(HANDS, chance.choice((1, 2, 2, 3)))), chance.randint(0, 9), chance.randint(1, 9))) for name in ROTA_NAMES]
+    return tree, rotas, rules(chance), "top"
+
+
+def houses(seed, number):
+    chance = random.Random(seed)
+    return [house_parts(chance, tree) for tree in near_trees(seed, number)]
+
+
+def stretch_behind(chance, turn):
+    """Mostly one that is not refused."""
+    first = turn + chance.choice((-1, 0, 0, 1, 2, 3, 5, 8))
+    return first, first + chance.choice((0, 1, 2, 4, 6, 9, 20))
+
+
+def deed(chance, parts, house, marks):
+    """A deed for this house, now and then one that is refused: the method's name, and what is handed in."""
+    turn = house.now() + chance.choice((-1, 0, 0, 0, 0, 1, 1, 1, 2, 3, 5, 8))
+    name = chance.choice(("come",) * 8 + ("go",) * 4 + ("answer",) * 5 + ("away", "swap") * 4 + ("quiet", "lift", "until") * 2)
+    told, quieted = house.records()[:2]
+    if name == "come":
+        return name, (turn, chance.choice(marks), chance.randint(0, 9))
+    if name in ("go", "lift"):
+        return name, (turn, chance.randint(0, len(told if name == "go" else quieted) + 1))
+    if name == "quiet":
+        return name, (turn, askings(chance)) + stretch_behind(chance, turn)
+    if name == "swap":
+        rota_name = chance.choice(ROTA_NAMES * 3 + ("ann",))
+        hands = dict(parts[1]).get(rota_name, [HANDS])[0] * 2 + (chance.choice(HANDS),)
+        return name, (turn, rota_name, chance.choice(hands), chance.choice(hands)) + stretch_behind(chance, turn)
+    if name == "away":
+        return name, (turn, chance.choice(HANDS + ("zoe",))) + stretch_behind(chance, turn)
+    if name == "answer":
+        groups = [state[:2] for state in house.states()] + [((), ()), ((9,), ("",))]
+        return name, (turn,) + chance.choice(groups)
+    return name, (turn,)
+
+
+def stretch_refusal(turn, first, last):
+    if not first < last:
+        return NoStretch
+    return Late if first < turn else None
+
+
+def refusal_by_the_words(parts, house, name, handed):
+    """The refusal of a deed by points 25 to 29, or None."""
+    turn = handed[0]
+    told, quieted = house.records()[:2]
+    hands_of = {rota_name: one[0] for rota_name, one in parts[1]}
+    if turn < house.now():
+        return Late
+    if name == "come":
+        return Twice if handed[1] in [saying[1] for saying in told if stands(saying, turn)] else None
+    if name == "go":
+        return None if handed[1] in [saying[0] for saying in told if stands(saying, turn)] else Unknown
+    if name == "lift":
+        return None if handed[1] in [number for number, _, first, last in quieted if last > turn and last > first] else Unknown
+    if name == "swap" and (handed[1] not in hands_of or not {handed[2], handed[3]} <= set(hands_of[handed[1]])):
+        return Unknown
+    if name == "swap" and handed[2] == handed[3]:
+        return Twice
+    if name == "away" and handed[1] not in [hand for hands in hands_of.values() for hand in hands]:
+        return Unknown
+    if name == "answer":
+        states = closings_by_the_words(parts, house.records(), house.states(), house.now(), turn)[0]
+        return None if handed[1:] in [state[:2] for state in states if state[5] is not None] else Unknown
+    return None if name == "until" else stretch_refusal(turn, handed[-2], handed[-1])
+
+
+def lived_house(chance, parts, number):
+    """A house of these parts, and this many deeds told to it, those that it refuses counted."""
+    house = House(*parts)
+    marks = chance.sample(all_marks(), 20)
+    for _ in range(number):
+        name, handed = deed(chance, parts, house, marks)
+        try:
+            getattr(house, name)(*handed)
+        except HouseError:
+            pass
+    return house
+
+
+def spoil(told):
+    """All that an asker can do to what is told: the lists in it are emptied, whatever they lie in."""
+    if isinstance(told, (list, tuple)):
+        for part in told:
+            spoil(part)
+    if isinstance(told, list):
+        told.clear()

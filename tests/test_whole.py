@@ -6,6 +6,7 @@ import unittest
 from pathlib import Path
 
 import belfry
+from belfry.anew import anew
 from belfry.askings import meets, meets_all
 from belfry.calls import hand_of
 from belfry.cases import bears, names_asked, shown, values_with
@@ -19,7 +20,7 @@ from belfry.rotas import hand_on, is_away, swapped, turn_of
 from belfry.trees import groups_of, key_of, places, row_at, taken
 from belfry.treetexts import read_tree, shown_tree
 from belfry.wordings import read_askings, read_marks, shown_askings, shown_marks
-from made import row
+from made import row, spoil
 
 FILES = sorted(Path(belfry.__file__).parent.glob("**/*.py"))
 REACHING_OUT = ("open", "input", "print", "eval", "exec", "compile", "__import__", "hash", "id")
@@ -45,6 +46,7 @@ STATES = [((), ("live",), [1, 3], 0, 4, None), ((1,), (), [2], 1, 30, 2)]
 THERE = [((), ("live",), [3, 4]), ((0,), ("db7", ""), [3]), ((1,), (), [2])]
 ROTAS = [("day", ROTA), ("night", (("dan", "ann"), 0, 3))]
 NAMED_SWAPS = [("day",) + swap for swap in SWAPS]
+RECORDS = (SAYINGS, QUIETINGS, NAMED_SWAPS, ABSENCES, [(15, (), ("live",)), (14, (1,), ())])
 
 # Each function with things to hand in, wrong ones among them.
 CALLS = [
@@ -97,6 +99,8 @@ CALLS = [
     (closed, (TREE, STATES, THERE, [], 3)),
     (hand_of, (BELOW, 0, 8, ROTAS, NAMED_SWAPS, ABSENCES, "head")),
     (hand_of, (BELOW, 2, 8, ROTAS, NAMED_SWAPS, ABSENCES, "head")),
+    (anew, (TREE, ROTAS, RULES, "head", RECORDS, 90)),
+    (anew, (TREE, ROTAS, RULES, "head", RECORDS, 1)),
 ]
 
 
@@ -119,15 +123,6 @@ class NoClockChanceOrFilesTest(unittest.TestCase):
                 if isinstance(node, ast.Name):
                     with self.subTest(file=file.name, name=node.id):
                         self.assertNotIn(node.id, REACHING_OUT)
-
-
-def spoil(told):
-    """All that an asker can do to what is told: the lists in it are emptied, whatever they lie in."""
-    if isinstance(told, (list, tuple)):
-        for part in told:
-            spoil(part)
-    if isinstance(told, list):
-        told.clear()
 
 
 class HandedInTest(unittest.TestCase):
